@@ -46,7 +46,8 @@ func TestRight(t *testing.T) {
 			t.Errorf("Right(%v) = %v", c.e, got)
 		}
 	}
-	for _, e := range []api.Est{{At: -1}, {Lo: -wide - 1}, {Hi: wide + 1}, {Lo: 3, Hi: 2}, {At: far + 1}} {
+	// One that is not On is zero, whatever would be right of one that is.
+	for _, e := range []api.Est{{At: -1}, {Lo: -wide - 1}, {Hi: wide + 1}, {Lo: 3, Hi: 2}, {At: far + 1}, {At: 1}, {Hi: 1}, {Lo: -1}, {At: 5, Lo: -4, Hi: 20}} {
 		if skew.Right(e) {
 			t.Errorf("Right(%v)", e)
 		}
